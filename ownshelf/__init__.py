@@ -1,0 +1,1 @@
+"""Ownshelf: shelves of own make, rows of things that are never changed and share their nodes."""

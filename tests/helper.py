@@ -1,0 +1,150 @@
+"""What the tests share: makes of many shapes, and what the document says of them, told the slow way."""
+
+import random
+
+from ownshelf.wood import Wood
+
+NAMES = ("number", "about", "left", "thing", "right", "size", "height", "total", "back")
+
+
+def join(one, other):
+    return one + other
+
+
+def first(one, other):
+    return one
+
+
+def last(one, other):
+    return other
+
+
+def chain(one, other):
+    # Straight lines (a, b): x -> a x + b, one after the other, not the same both ways.
+    return (one[0] * other[0], one[1] * other[0] + other[1])
+
+
+def letters(count):
+    return ["abcdefghijklmnopqrstuvwxyz"[k % 26] for k in range(count)]
+
+
+def plain_things(make):
+    if make is None:
+        return []
+    row = plain_things(make[2]) + [make[3]] + plain_things(make[4])
+    return row[::-1] if make[1] else row
+
+
+def plain_height(make):
+    if make is None:
+        return 0
+    return 1 + max(plain_height(make[2]), plain_height(make[4]))
+
+
+def plain_sum(add, things):
+    if add is None or not things:
+        return None
+    result = things[0]
+    for thing in things[1:]:
+        result = add(result, thing)
+    return result
+
+
+def plainly_right(make, add=None):
+    if make is None:
+        return True
+    number, about, left, thing, right, size, height, total, back = make
+    things = plain_things(make)
+    return (
+        plainly_right(left, add)
+        and plainly_right(right, add)
+        and abs(plain_height(left) - plain_height(right)) <= 1
+        and size == len(things)
+        and height == plain_height(make)
+        and total == plain_sum(add, things)
+        and back == plain_sum(add, things[::-1])
+    )
+
+
+def built(wood, things):
+    if not things:
+        return None
+    middle = len(things) // 2
+    left = built(wood, things[:middle])
+    right = built(wood, things[middle + 1:])
+    return wood.node(left, things[middle], right)
+
+
+def lean(wood, levels, next_thing=lambda: 1):
+    """The make of that height with the fewest things: at each node left is higher by one."""
+    if levels <= 0:
+        return None
+    left = lean(wood, levels - 1, next_thing)
+    right = lean(wood, levels - 2, next_thing)
+    return wood.node(left, next_thing(), right)
+
+
+def mixed(wood, things, seed):
+    """A make with makes turned about at many places within."""
+    chance = random.Random(seed)
+
+    def grown(row):
+        if not row:
+            return None
+        middle = len(row) // 2
+        left = grown(row[:middle])
+        right = grown(row[middle + 1:])
+        make = wood.node(left, row[middle], right)
+        for turn in range(chance.randrange(3)):
+            make = wood.turned(make)
+        return make
+
+    return grown(things)
+
+
+def nodes_with_paths(make, path=()):
+    if make is None:
+        return []
+    found = [(path, make)]
+    found += nodes_with_paths(make[2], path + (2,))
+    found += nodes_with_paths(make[4], path + (4,))
+    return found
+
+
+def changed(make, **values):
+    row = list(make)
+    for name, value in values.items():
+        row[NAMES.index(name)] = value
+    return tuple(row)
+
+
+def replaced(make, path, inner):
+    """The make with another one at the path, and nothing else changed above it."""
+    if not path:
+        return inner
+    row = list(make)
+    row[path[0]] = replaced(make[path[0]], path[1:], inner)
+    return tuple(row)
+
+
+def samples():
+    """Pairs of a way of adding and makes of it, from none to some dozens of things."""
+    ways = [
+        (None, lambda k: letters(k)),
+        (None, lambda k: list(range(-3, k - 3))),
+        (join, lambda k: letters(k)),
+        (join, lambda k: [7 * j - 11 for j in range(k)]),
+        (join, lambda k: [10 ** 59 + j for j in range(k)]),
+        (max, lambda k: [(5 * j) % 13 for j in range(k)]),
+        (last, lambda k: letters(k)),
+        (chain, lambda k: [(j % 3 - 1, j) for j in range(k)]),
+        (join, lambda k: [(j, "t") for j in range(k)]),
+    ]
+    found = []
+    for add, row in ways:
+        for count in (0, 1, 2, 3, 4, 6, 7, 11, 20):
+            wood = Wood(add)
+            make = built(wood, row(count))
+            found += [(add, wood, make), (add, wood, wood.turned(make))]
+            found += [(add, wood, mixed(wood, row(count), seed)) for seed in range(3)]
+    return found

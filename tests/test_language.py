@@ -1,0 +1,171 @@
+"""Holds the package to those rules of ../shared/LANGUAGE.md that can be read off the files."""
+
+import ast
+import builtins
+import pathlib
+import re
+import unittest
+
+PACKAGE = pathlib.Path(__file__).resolve().parent.parent / "ownshelf"
+FILES = sorted(PACKAGE.glob("*.py"))
+
+OWN_NAMES = set("""
+    len range enumerate zip min max sum abs sorted reversed int str bool list tuple dict set frozenset isinstance
+    ord repr any all divmod Exception ValueError TypeError KeyError IndexError LookupError ZeroDivisionError
+    ArithmeticError OverflowError RuntimeError NotImplementedError AttributeError StopIteration
+""".split())
+OWN_METHODS = {"__init__", "__eq__", "__repr__", "__str__", "__len__"}
+OUT_ANYWHERE = set("register mro elements open input version_info with_traceback add_note format format_map".split())
+OUT_WORDS = set("""
+    type typing typing_extensions enum Enum IntEnum StrEnum Flag IntFlag Generic Protocol ABC ABCMeta namedtuple
+    NamedTuple TypedDict TYPE_CHECKING abstractmethod
+""".split())
+STATEMENTS = (
+    ast.FunctionDef, ast.ClassDef, ast.ImportFrom, ast.Assign, ast.AugAssign, ast.If, ast.While, ast.For, ast.Return,
+    ast.Break, ast.Continue, ast.Pass, ast.Raise, ast.Try, ast.Expr,
+)
+EXPRESSIONS = (
+    ast.Constant, ast.Name, ast.List, ast.Tuple, ast.Dict, ast.Set, ast.BinOp, ast.UnaryOp, ast.BoolOp, ast.Compare,
+    ast.IfExp, ast.Call, ast.Attribute, ast.Subscript, ast.Slice, ast.ListComp, ast.JoinedStr, ast.FormattedValue,
+    ast.Lambda,
+)
+LITERALS = (ast.Constant, ast.UnaryOp, ast.USub, ast.List, ast.Tuple, ast.Dict, ast.Name, ast.Load)
+
+
+def trees():
+    return [(path.name, ast.parse(path.read_text(encoding="utf-8"))) for path in FILES]
+
+
+def nodes_of(kinds):
+    return [(name, node) for name, tree in trees() for node in ast.walk(tree) if isinstance(node, kinds)]
+
+
+def is_docstring(tree, node):
+    return node is tree.body[0] and isinstance(node, ast.Expr) and isinstance(node.value, ast.Constant)
+
+
+def names_in(node):
+    if isinstance(node, ast.Name):
+        return [node.id]
+    if isinstance(node, ast.Attribute):
+        return [node.attr]
+    if isinstance(node, (ast.FunctionDef, ast.ClassDef)):
+        return [node.name]
+    if isinstance(node, ast.arg):
+        return [node.arg]
+    if isinstance(node, ast.alias):
+        return [node.name]
+    return []
+
+
+class Language(unittest.TestCase):
+    def none_of(self, wrong):
+        self.assertEqual([f"{name}:{getattr(node, 'lineno', 0)}" for name, node in wrong], [])
+
+    def test_files(self):
+        self.assertIn(PACKAGE / "__init__.py", FILES)
+        for path in PACKAGE.iterdir():
+            if path.name != "__pycache__":
+                self.assertRegex(path.name, r"\A([a-z][a-z0-9_]*|__init__|__main__)\.py\Z")
+
+    def test_signs_and_sizes(self):
+        for path in FILES:
+            text = path.read_bytes().decode("ascii")
+            lines = text.split("\n")
+            self.assertRegex(text, r"\A[ -~\n]*\Z", path.name)
+            self.assertLessEqual(len(lines), 400, path.name)
+            self.assertLessEqual(max(len(line) for line in lines), 120, path.name)
+        self.none_of([
+            pair for pair in nodes_of(ast.FunctionDef) if pair[1].end_lineno - pair[1].lineno + 1 > 40
+        ])
+
+    def test_words_that_stand_nowhere(self):
+        for path in FILES:
+            text = path.read_text()
+            self.assertEqual(sorted(set(re.findall(r"\w+", text)) & OUT_WORDS), [], path.name)
+            self.assertNotRegex(text, "dataclass|overload|contextmanager", path.name)
+
+    def test_statements_and_expressions(self):
+        self.none_of([pair for pair in nodes_of(ast.stmt) if not isinstance(pair[1], STATEMENTS)])
+        self.none_of([pair for pair in nodes_of(ast.expr) if not isinstance(pair[1], EXPRESSIONS)])
+        self.none_of([pair for pair in nodes_of((ast.While, ast.For)) if pair[1].orelse])
+        self.none_of([pair for pair in nodes_of(ast.Assign) if len(pair[1].targets) != 1])
+        self.none_of([pair for pair in nodes_of((ast.Div, ast.MatMult))])
+        self.none_of([
+            (name, node) for name, tree in trees() for node in ast.walk(tree)
+            if isinstance(node, ast.Expr) and not isinstance(node.value, ast.Call) and not is_docstring(tree, node)
+        ])
+        self.none_of([
+            pair for pair in nodes_of(ast.Constant)
+            if not (pair[1].value is None or isinstance(pair[1].value, (int, str)))
+            or isinstance(pair[1].value, str) and "%" in pair[1].value
+        ])
+
+    def test_the_top_of_a_file(self):
+        for name, tree in trees():
+            bound = []
+            for node in tree.body:
+                if isinstance(node, ast.Assign):
+                    self.assertTrue(all(isinstance(part, LITERALS) for part in ast.walk(node.value)), name)
+                    bound += [target.id for target in node.targets]
+                elif isinstance(node, ast.ImportFrom):
+                    self.assertEqual((node.level, node.module.split(".")[0]), (0, "ownshelf"), name)
+                    self.assertEqual([alias.asname for alias in node.names], [None] * len(node.names), name)
+                    bound += [alias.name for alias in node.names]
+                elif isinstance(node, (ast.FunctionDef, ast.ClassDef)):
+                    bound.append(node.name)
+                else:
+                    self.assertTrue(is_docstring(tree, node), name)
+            self.assertEqual(len(bound), len(set(bound)), name)
+            inner = [node for node in ast.walk(tree) if isinstance(node, (ast.ClassDef, ast.ImportFrom))]
+            self.assertTrue(all(node in tree.body for node in inner), name)
+            self.assert_locals_have_names_of_their_own(name, tree)
+
+    def assert_locals_have_names_of_their_own(self, name, tree):
+        taken = [alias.name for node in tree.body if isinstance(node, ast.ImportFrom) for alias in node.names]
+        taken += [node.name for node in tree.body if isinstance(node, ast.ClassDef)] + dir(builtins)
+        for node in ast.walk(tree):
+            local = node.arg if isinstance(node, ast.arg) else None
+            if isinstance(node, ast.Name) and isinstance(node.ctx, ast.Store):
+                local = node.id
+            self.assertNotIn(local, taken, name)
+
+    def test_functions(self):
+        for name, node in nodes_of((ast.FunctionDef, ast.Lambda)):
+            self.assertFalse(node.args.vararg or node.args.kwarg or node.args.kwonlyargs or node.args.posonlyargs, name)
+            self.assertFalse(getattr(node, "decorator_list", []) or getattr(node, "returns", None), name)
+            self.assertTrue(all(isinstance(value, ast.Constant) for value in node.args.defaults), name)
+
+    def test_classes(self):
+        for name, node in nodes_of(ast.ClassDef):
+            self.assertFalse(node.decorator_list or node.keywords or len(node.bases) > 1, name)
+            self.assertTrue(all(isinstance(part, (ast.FunctionDef, ast.Pass)) for part in node.body), name)
+            methods = [part.name for part in node.body if isinstance(part, ast.FunctionDef)]
+            self.assertEqual(len(methods), len(set(methods)), name)
+        methods = {part.name for name, node in nodes_of(ast.ClassDef) for part in node.body
+                   if isinstance(part, ast.FunctionDef)}
+        values = {node.attr for name, node in nodes_of(ast.Attribute) if isinstance(node.ctx, ast.Store)}
+        self.assertEqual(methods & values, set())
+
+    def test_names(self):
+        out = set(dir(builtins)) - OWN_NAMES
+        for path, node in nodes_of(ast.AST):
+            for word in names_in(node):
+                if word not in OWN_METHODS:
+                    self.assertRegex(word, r"\A[A-Za-z][A-Za-z0-9_]*\Z", path)
+                self.assertNotIn(word, OUT_ANYWHERE, path)
+                if isinstance(node, ast.Name):
+                    self.assertNotIn(word, out, path)
+
+    def test_is_stands_beside_none_and_truths_alone(self):
+        for name, node in nodes_of(ast.Compare):
+            sides = [node.left] + node.comparators
+            for place, way in enumerate(node.ops):
+                if isinstance(way, (ast.Is, ast.IsNot)):
+                    near = sides[place:place + 2]
+                    plain = [side for side in near if isinstance(side, ast.Constant)]
+                    self.assertTrue(any(side.value in (None, True, False) for side in plain), name)
+
+
+if __name__ == "__main__":
+    unittest.main()
