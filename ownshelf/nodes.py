@@ -14,6 +14,12 @@ TOTAL = 7
 BACK = 8
 VALUES_OF_A_NODE = 9
 
+# Where the values stand in what parts and seen tell.
+AHEAD = 0
+MIDDLE = 1
+BEHIND = 2
+TURNED = 3
+
 
 def size(make):
     if make is None:
@@ -46,6 +52,14 @@ def parts(wood, make):
     ahead = wood.turned(make[RIGHT])
     behind = wood.turned(make[LEFT])
     return (ahead, make[THING], behind)
+
+
+def seen(make, turned):
+    # The parts of a node for those who only read: no node is made, so it is told instead
+    # whether what stands ahead and behind is to be read turned about.
+    if make[ABOUT] == turned:
+        return (make[LEFT], make[THING], make[RIGHT], False)
+    return (make[RIGHT], make[THING], make[LEFT], True)
 
 
 def size_above(left, right):

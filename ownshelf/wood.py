@@ -8,6 +8,11 @@ from ownshelf.nodes import size_above, height_above, in_balance, sums_above
 MOST_THINGS = 2000
 
 
+def check_room(things):
+    if things > MOST_THINGS:
+        raise TooMany(f"a make has at most {MOST_THINGS} things, not {things}")
+
+
 class Wood:
     def __init__(self, add=None):
         self.adding = add
@@ -18,8 +23,7 @@ class Wood:
 
     def node(self, left, thing, right):
         things = size_above(left, right)
-        if things > MOST_THINGS:
-            raise TooMany(f"a make has at most {MOST_THINGS} things, not {things}")
+        check_room(things)
         if not in_balance(left, right):
             raise NoBalance("the heights of left and right differ by more than one")
         measures = (things, height_above(left, right))

@@ -1,7 +1,10 @@
 """What the tests share: makes of many shapes, and what the document says of them, told the slow way."""
 
 import random
+import unittest
 
+from ownshelf.nodes import is_right
+from ownshelf.rows import turned_part
 from ownshelf.wood import Wood
 
 NAMES = ("number", "about", "left", "thing", "right", "size", "height", "total", "back")
@@ -127,9 +130,47 @@ def replaced(make, path, inner):
     return tuple(row)
 
 
-def samples():
-    """Pairs of a way of adding and makes of it, from none to some dozens of things."""
-    ways = [
+def lean_mixed(wood, levels, chance, next_thing=lambda: 1):
+    """A make of that height with the fewest things, the higher side and what stands turned told by chance."""
+    if levels <= 0:
+        return None
+    high = lean_mixed(wood, levels - 1, chance, next_thing)
+    low = lean_mixed(wood, levels - 2, chance, next_thing)
+    left, right = (high, low) if chance.randrange(2) else (low, high)
+    make = wood.node(left, next_thing(), right)
+    return wood.turned(make) if chance.randrange(2) else make
+
+
+def with_turned_stretches(wood, make, chance, turns=4):
+    for turn in range(turns):
+        start, end = sorted(chance.randrange(len(plain_things(make)) + 1) for side in range(2))
+        make = turned_part(wood, make, start, end)
+    return make
+
+
+def zoo(wood, things, seed=0):
+    """Makes of these things, in their order or in another one: plain, turned about, and turned within."""
+    chance = random.Random(seed)
+    plain = built(wood, things)
+    within = with_turned_stretches(wood, plain, chance)
+    return [plain, wood.turned(plain), within, wood.turned(within), mixed(wood, things, seed)]
+
+
+def numbers_of(*makes):
+    """The numbers of all nodes of the makes, at whatever depth."""
+    found = set()
+    waiting = list(makes)
+    while waiting:
+        make = waiting.pop()
+        if make is not None:
+            found.add(make[0])
+            waiting += [make[2], make[4]]
+    return found
+
+
+def ways():
+    """Pairs of a way of adding and a function of a count that tells as many things for it."""
+    return [
         (None, lambda k: letters(k)),
         (None, lambda k: list(range(-3, k - 3))),
         (join, lambda k: letters(k)),
@@ -140,11 +181,33 @@ def samples():
         (chain, lambda k: [(j % 3 - 1, j) for j in range(k)]),
         (join, lambda k: [(j, "t") for j in range(k)]),
     ]
+
+
+def samples():
+    """Pairs of a way of adding and makes of it, from none to some dozens of things."""
     found = []
-    for add, row in ways:
+    for add, row in ways():
         for count in (0, 1, 2, 3, 4, 6, 7, 11, 20):
             wood = Wood(add)
             make = built(wood, row(count))
             found += [(add, wood, make), (add, wood, wood.turned(make))]
             found += [(add, wood, mixed(wood, row(count), seed)) for seed in range(3)]
     return found
+
+
+class Case(unittest.TestCase):
+    def assert_refused(self, wood, error, deed, *asked):
+        """Refused with just this error, and no node is made."""
+        before = wood.made()
+        with self.assertRaises(error) as caught:
+            deed(*asked)
+        self.assertIs(caught.exception.__class__, error)
+        self.assertEqual(wood.made(), before)
+
+    def assert_make(self, wood, make, things):
+        """A make of just these things, and a right one."""
+        self.assertEqual(plain_things(make), things)
+        if len(things) <= 40:
+            self.assertTrue(plainly_right(make, wood.adding), make)
+        self.assertIs(is_right(make, wood.adding), True)
+        self.assertTrue(all(0 <= number < wood.made() for number in numbers_of(make)))

@@ -20,6 +20,17 @@ OUT_WORDS = set("""
     type typing typing_extensions enum Enum IntEnum StrEnum Flag IntFlag Generic Protocol ABC ABCMeta namedtuple
     NamedTuple TypedDict TYPE_CHECKING abstractmethod
 """.split())
+METHODS_OF_VALUES = set("""
+    append clear copy count endswith extend find get index insert isalnum isalpha isdigit islower isspace isupper
+    items join keys ljust lower lstrip partition pop remove replace reverse rfind rjust rpartition rsplit rstrip
+    setdefault split splitlines startswith strip update upper values zfill bit_length
+""".split())
+KEYWORDS = {
+    "sorted": {"key", "reverse"}, "min": {"key", "default"}, "max": {"key", "default"}, "sum": {"start"},
+    "enumerate": {"start"}, "zip": {"strict"},
+}
+WALKED_AT_ONCE = {"zip", "enumerate", "reversed", "range", "items", "keys", "values"}
+WALKERS = {"list", "tuple", "dict", "sorted", "sum", "any", "all", "enumerate", "zip", "min", "max", "join"}
 STATEMENTS = (
     ast.FunctionDef, ast.ClassDef, ast.ImportFrom, ast.Assign, ast.AugAssign, ast.If, ast.While, ast.For, ast.Return,
     ast.Break, ast.Continue, ast.Pass, ast.Raise, ast.Try, ast.Expr,
@@ -56,6 +67,21 @@ def names_in(node):
     if isinstance(node, ast.alias):
         return [node.name]
     return []
+
+
+def called_name(node):
+    """The name that is called, of a function or of a method; None where the node is no such call."""
+    if not isinstance(node, ast.Call):
+        return None
+    if isinstance(node.func, ast.Attribute):
+        return node.func.attr
+    return node.func.id if isinstance(node.func, ast.Name) else None
+
+
+def bound_at_the_top(tree):
+    """The names that a file itself defines: functions, classes and plain values, not what it imports."""
+    found = {node.name for node in tree.body if isinstance(node, (ast.FunctionDef, ast.ClassDef))}
+    return found | {node.targets[0].id for node in tree.body if isinstance(node, ast.Assign)}
 
 
 class Language(unittest.TestCase):
@@ -156,6 +182,54 @@ class Language(unittest.TestCase):
                 self.assertNotIn(word, OUT_ANYWHERE, path)
                 if isinstance(node, ast.Name):
                     self.assertNotIn(word, out, path)
+
+    def test_imports_are_from_the_defining_file_and_go_in_no_ring(self):
+        files = {f"ownshelf.{name[:-3]}": tree for name, tree in trees()}
+        drawn = {}
+        for module, tree in files.items():
+            rows = [node for node in tree.body if isinstance(node, ast.ImportFrom)]
+            for row in rows:
+                wanted = {alias.name for alias in row.names}
+                self.assertLessEqual(wanted, bound_at_the_top(files[row.module]), module)
+            drawn[module] = {row.module for row in rows}
+        while drawn:
+            free = [module for module in drawn if not drawn[module] & set(drawn)]
+            self.assertNotEqual(free, [], f"these draw from one another: {sorted(drawn)}")
+            for module in free:
+                drawn.pop(module)
+
+    def test_methods_are_listed_or_own_and_called_where_they_stand(self):
+        own = {part.name for name, node in nodes_of(ast.ClassDef) for part in node.body
+               if isinstance(part, ast.FunctionDef)}
+        for name, tree in trees():
+            called = [node.func for node in ast.walk(tree) if isinstance(node, ast.Call)]
+            for node in ast.walk(tree):
+                if isinstance(node, ast.Attribute) and node in called:
+                    self.assertIn(node.attr, own | METHODS_OF_VALUES, name)
+                elif isinstance(node, ast.Attribute):
+                    self.assertNotIn(node.attr, own, name)
+
+    def test_keywords(self):
+        for name, node in nodes_of(ast.Call):
+            told = {keyword.arg for keyword in node.keywords}
+            if told and (called_name(node) in OWN_NAMES or isinstance(node.func, ast.Attribute)):
+                self.assertLessEqual(told, KEYWORDS.get(called_name(node), set()), name)
+
+    def test_ranges_and_their_like_are_walked_on_the_spot(self):
+        for name, tree in trees():
+            walked = [node.iter for node in ast.walk(tree) if isinstance(node, (ast.For, ast.comprehension))]
+            walked += [inner for node in ast.walk(tree) if called_name(node) in WALKERS for inner in node.args]
+            for node in ast.walk(tree):
+                if called_name(node) in WALKED_AT_ONCE:
+                    self.assertIn(node, walked, name)
+
+    def test_handlers_name_no_error_that_is_too_wide(self):
+        for name, node in nodes_of(ast.Try):
+            self.assertFalse(node.finalbody, name)
+            for handler in node.handlers:
+                self.assertIsNotNone(handler.type, name)
+                caught = {word for part in ast.walk(handler.type) for word in names_in(part)}
+                self.assertEqual(caught & {"Exception", "TypeError"}, set(), name)
 
     def test_is_stands_beside_none_and_truths_alone(self):
         for name, node in nodes_of(ast.Compare):
