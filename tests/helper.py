@@ -3,7 +3,8 @@
 import random
 import unittest
 
-from ownshelf.nodes import is_right
+from ownshelf.errors import Changed, NoMore, NoPlace, ShelfError, TooMany
+from ownshelf.nodes import height, is_right
 from ownshelf.rows import turned_part
 from ownshelf.wood import Wood
 
@@ -195,6 +196,108 @@ def samples():
     return found
 
 
+class PlainShelf:
+    """A shelf told the slow way: a list, which moves the marks of its walkers at each deed."""
+
+    def __init__(self, things=()):
+        self.row = list(things)
+        self.done = []
+        self.walkers = []
+
+    def hold(self, row, *deed):
+        if len(row) > 2000:
+            raise TooMany
+        self.row = row
+        self.done.append(deed)
+        for walker in self.walkers:
+            walker.meet(deed)
+
+    def need(self, truth):
+        if not truth:
+            raise NoPlace
+
+    def put(self, place, thing):
+        self.need(0 <= place <= len(self.row))
+        self.hold(self.row[:place] + [thing] + self.row[place:], "put", place)
+
+    def out(self, place):
+        self.need(0 <= place < len(self.row))
+        thing = self.row[place]
+        self.hold(self.row[:place] + self.row[place + 1:], "out", place)
+        return thing
+
+    def swap(self, place, thing):
+        self.need(0 <= place < len(self.row))
+        self.hold(self.row[:place] + [thing] + self.row[place + 1:], "swap", place)
+
+    def turned(self, start, end):
+        self.need(0 <= start <= end <= len(self.row))
+        self.hold(self.row[:start] + self.row[start:end][::-1] + self.row[end:], "turned", start, end)
+
+    def laid(self, other):
+        self.hold(self.row + other.row, "laid", len(other.row))
+
+    def cut(self, place):
+        self.need(0 <= place <= len(self.row))
+        behind = PlainShelf(self.row[place:])
+        self.hold(self.row[:place], "cut", place)
+        return behind
+
+    def back(self, row):
+        self.hold(list(row), "back", len(row))
+
+
+class PlainWalker:
+    """A walker told the slow way; as it stands, its mark is moved by the shelf at the time of each deed."""
+
+    def __init__(self, shelf, way):
+        self.shelf = shelf
+        self.way = way
+        self.stood = list(shelf.row)
+        self.mark = 0
+        self.first_deed = None
+        shelf.walkers.append(self)
+
+    def meet(self, deed):
+        if self.first_deed is None:
+            self.first_deed = deed
+        if self.way == "stands":
+            self.mark = self.moved(*deed)
+
+    def moved(self, name, place, end=None):
+        mark = self.mark
+        if name == "turned":
+            return end if mark in range(place + 1, end) else mark
+        if name == "back":
+            return len(self.shelf.row)
+        if mark <= place or name in ("swap", "laid"):
+            return mark
+        return {"put": mark + 1, "out": mark - 1, "cut": len(self.shelf.row)}[name]
+
+    def left(self):
+        if self.way == "strict" and self.first_deed is not None:
+            raise Changed(self.first_deed)
+        row = self.shelf.row if self.way == "stands" else self.stood
+        return row[self.mark:]
+
+    def more(self):
+        return self.left() != []
+
+    def step(self):
+        left = self.left()
+        if not left:
+            raise NoMore
+        self.mark += 1
+        return left[0]
+
+
+def told_or_refused(ask):
+    try:
+        return ("told", ask())
+    except ShelfError as error:
+        return ("refused", error.__class__, getattr(error, "deed", None))
+
+
 class Case(unittest.TestCase):
     def assert_refused(self, wood, error, deed, *asked):
         """Refused with just this error, and no node is made."""
@@ -211,3 +314,15 @@ class Case(unittest.TestCase):
             self.assertTrue(plainly_right(make, wood.adding), make)
         self.assertIs(is_right(make, wood.adding), True)
         self.assertTrue(all(0 <= number < wood.made() for number in numbers_of(make)))
+
+    def assert_few_new(self, most, told, handed):
+        """Of the nodes of what is told at most so many times (h + 2) are new ones."""
+        greatest = max(height(make) for make in handed)
+        new = numbers_of(*told) - numbers_of(*handed)
+        self.assertLessEqual(len(new), most * (greatest + 2))
+
+    def assert_alike(self, mine, plain):
+        """Both tell the same, or both refuse with the same error (and the same deed)."""
+        told = [told_or_refused(ask) for ask in (mine, plain)]
+        self.assertEqual(told[0], told[1])
+        return told[0]

@@ -40,6 +40,11 @@ EXPRESSIONS = (
     ast.IfExp, ast.Call, ast.Attribute, ast.Subscript, ast.Slice, ast.ListComp, ast.JoinedStr, ast.FormattedValue,
     ast.Lambda,
 )
+VALUES_OF_OBJECTS = set("count index title find get join lower upper split strip copy add".split())
+OUT_AS_NAMES = set("""
+    attrgetter breakpoint builtins compile copyright credits delattr dir eval exec exit gc getattr globals hasattr
+    help id importlib license locals methodcaller os quit setattr super type vars sys
+""".split())
 LITERALS = (ast.Constant, ast.UnaryOp, ast.USub, ast.List, ast.Tuple, ast.Dict, ast.Name, ast.Load)
 
 
@@ -76,6 +81,10 @@ def called_name(node):
     if isinstance(node.func, ast.Attribute):
         return node.func.attr
     return node.func.id if isinstance(node.func, ast.Name) else None
+
+
+def is_read(node):
+    return isinstance(node.ctx, ast.Load)
 
 
 def bound_at_the_top(tree):
@@ -239,6 +248,69 @@ class Language(unittest.TestCase):
                     near = sides[place:place + 2]
                     plain = [side for side in near if isinstance(side, ast.Constant)]
                     self.assertTrue(any(side.value in (None, True, False) for side in plain), name)
+
+    def test_what_a_file_s_top_keeps_is_plain_and_only_read(self):
+        for name, tree in trees():
+            above, kept = [], []
+            for node in tree.body:
+                if isinstance(node, ast.FunctionDef):
+                    above.append(node.name)
+                if isinstance(node, ast.Assign):
+                    inner = list(ast.walk(node.value))[1:]
+                    self.assertFalse([part for part in inner if isinstance(part, (ast.List, ast.Dict, ast.Set))], name)
+                    self.assertLessEqual({word for part in inner for word in names_in(part)}, set(above), name)
+                    if isinstance(node.value, (ast.List, ast.Dict)):
+                        kept.append(node.targets[0].id)
+            self.assert_only_read(name, tree, kept)
+
+    def assert_only_read(self, name, tree, kept):
+        read = [node.value for node in ast.walk(tree) if isinstance(node, ast.Subscript) and is_read(node)]
+        read += [side for node in ast.walk(tree) if isinstance(node, ast.Compare) for side in node.comparators]
+        for node in ast.walk(tree):
+            if isinstance(node, ast.Name) and node.id in kept and is_read(node):
+                self.assertIn(node, read, name)
+
+    def test_classes_are_called_or_named_where_they_may_be(self):
+        classes = {node.name for name, node in nodes_of(ast.ClassDef)}
+        for name, tree in trees():
+            good = [node.func for node in ast.walk(tree) if isinstance(node, ast.Call)]
+            good += [base for node in ast.walk(tree) if isinstance(node, ast.ClassDef) for base in node.bases]
+            good += [node.type for node in ast.walk(tree) if isinstance(node, ast.ExceptHandler)]
+            # A base's own making is called through its name.
+            good += [node.value for node in ast.walk(tree) if isinstance(node, ast.Attribute) and node.attr == "__init__"]
+            for node in ast.walk(tree):
+                if isinstance(node, ast.Name) and node.id in classes:
+                    self.assertIn(node, good, f"{name}:{node.lineno}")
+
+    def test_raise_makes_its_error_on_the_spot(self):
+        for name, node in nodes_of(ast.Raise):
+            self.assertIsInstance(node.exc, ast.Call, name)
+            self.assertIsNone(node.cause, name)
+
+    def test_making_an_object_gives_nothing_back(self):
+        for name, node in nodes_of(ast.FunctionDef):
+            if node.name == "__init__":
+                self.assertFalse([part for part in ast.walk(node) if isinstance(part, ast.Return)], name)
+
+    def test_own_values_and_methods_have_free_names(self):
+        taken = {word for value in ("", 0, [], {}, set(), b"", ()) for word in dir(value)} | {"args"}
+        values = {node.attr for name, node in nodes_of(ast.Attribute) if isinstance(node.ctx, ast.Store)}
+        methods = {part.name for name, node in nodes_of(ast.ClassDef) for part in node.body
+                   if isinstance(part, ast.FunctionDef)}
+        self.assertEqual(values & taken - VALUES_OF_OBJECTS, set())
+        self.assertEqual(methods & taken - METHODS_OF_VALUES - OWN_METHODS - {"add", "discard"}, set())
+
+    def test_names_that_are_not_used(self):
+        for name, node in nodes_of((ast.Name, ast.arg, ast.FunctionDef, ast.ClassDef, ast.alias)):
+            self.assertNotIn(names_in(node)[0], OUT_AS_NAMES, name)
+
+    def test_no_sets_and_no_powers(self):
+        self.none_of(nodes_of((ast.Set, ast.Pow)))
+        self.none_of([pair for pair in nodes_of(ast.Call) if called_name(pair[1]) in ("set", "frozenset", "chr")])
+
+    def test_texts_have_plain_escapes_alone(self):
+        for path in FILES:
+            self.assertNotRegex(path.read_text(), r"\\[^nt\\'\"]", path.name)
 
 
 if __name__ == "__main__":

@@ -3,8 +3,8 @@
 import random
 import unittest
 
-from helper import Case, built, join, lean_mixed, mixed, numbers_of, plain_things, zoo
-from ownshelf.nodes import height, size
+from helper import Case, built, join, lean_mixed, mixed, plain_things, zoo
+from ownshelf.nodes import size
 from ownshelf.rows import cut, laid, out, put, swapped, turned_part
 from ownshelf.sets import added, dropped
 from ownshelf.tables import with_value, without
@@ -56,11 +56,6 @@ def some_of(places):
 
 
 class NewNodes(Case):
-    def assert_few_new(self, most, told, handed):
-        greatest = max(height(make) for make in handed)
-        new = numbers_of(*told) - numbers_of(*handed)
-        self.assertLessEqual(len(new), most * (greatest + 2))
-
     def test_the_makes_here_are_sets(self):
         for make in makes(Wood()):
             self.assertEqual(plain_things(make), list(range(1, 2 * size(make), 2)))
